@@ -1,0 +1,1 @@
+"""Letterlaw: which words are the same by told pacts."""
