@@ -104,6 +104,36 @@ class Form(unittest.TestCase):
                 if isinstance(node, ast.Call) and isinstance(node.func, ast.Attribute):
                     self.assertIn(node.func.attr, OWN_METHODS | own | {"__init__"}, (name, node.lineno))
 
+    def test_no_name_is_a_method_and_a_value(self):
+        methods = set()
+        values = set()
+        for name, tree in trees():
+            for node in ast.walk(tree):
+                if isinstance(node, ast.ClassDef):
+                    methods |= {part.name for part in node.body if isinstance(part, ast.FunctionDef)}
+                if isinstance(node, ast.Attribute) and isinstance(node.ctx, ast.Store):
+                    values.add(node.attr)
+        self.assertEqual(methods & values, set())
+
+    def test_no_local_is_called_like_a_class_or_an_import(self):
+        for name, tree in trees():
+            taken = {node.name for node in tree.body if isinstance(node, ast.ClassDef)}
+            for node in tree.body:
+                if isinstance(node, ast.ImportFrom):
+                    taken |= {drawn.asname or drawn.name for drawn in node.names}
+            for node in ast.walk(tree):
+                with self.subTest(name, row=getattr(node, "lineno", 0)):
+                    if isinstance(node, ast.Name) and isinstance(node.ctx, ast.Store):
+                        self.assertNotIn(node.id, taken)
+                    if isinstance(node, ast.arg):
+                        self.assertNotIn(node.arg, taken)
+
+    def test_statements_by_themselves_are_calls(self):
+        for name, tree in trees():
+            for node in ast.walk(tree):
+                if isinstance(node, ast.Expr) and node is not tree.body[0]:
+                    self.assertIsInstance(node.value, ast.Call, (name, node.lineno))
+
     def test_imports(self):
         names = {"letterlaw." + name[:-3]: defined(tree) for name, tree in trees()}
         for name, tree in trees():
