@@ -51,8 +51,8 @@ def read_pact(letters, text, most=60):
     return (one, other)
 
 
-def is_number(text):
-    if not 1 <= len(text) <= MOST_FIGURES:
+def is_number(text, most):
+    if not 1 <= len(text) <= most:
         return False
     if text[0] == "0" and text != "0":
         return False
@@ -63,7 +63,7 @@ def is_number(text):
 def read_step(text):
     sign = FORTH if FORTH in text else BACK
     parts = text.split(sign)
-    if len(parts) != 2 or not is_number(parts[0]) or not is_number(parts[1]):
+    if len(parts) != 2 or not all([is_number(part, MOST_FIGURES) for part in parts]):
         raise NoStep("a step is a number, > or <, and a place")
     return (int(parts[0]), int(parts[1]), sign == FORTH)
 
